@@ -1,0 +1,1 @@
+"""Items of lists in lists and their marks."""
