@@ -1,6 +1,6 @@
 """What kinds, manners, items and outlines are; the other files refuse by this."""
 
-from listmarks.errors import BadManner, BadOutline
+from listmarks.errors import BadManner, BadNumber, BadOutline, BadText
 
 LETTERS = "abcdefghijklmnopqrstuvwxyz"
 KINDS = ("figures", "letters", "roman")
@@ -103,3 +103,15 @@ def check_outline(value):
     """Refuse what is no outline."""
     if not is_outline(value):
         raise BadOutline("no outline")
+
+
+def check_number(value, low, high):
+    """Refuse what is no whole number from low to high."""
+    if not is_number(value, low, high):
+        raise BadNumber("no number within the bounds")
+
+
+def check_text(value, most):
+    """Refuse what is no text of at most that many signs."""
+    if not isinstance(value, str) or len(value) > most:
+        raise BadText("no text within the bounds")

@@ -1,7 +1,7 @@
 """Numbers written in figures, letters or Roman figures, and read back."""
 
-from listmarks.checks import LETTERS, check_kind, is_number
-from listmarks.errors import BadNumber, BadText
+from listmarks.checks import LETTERS, check_kind, check_number, is_number
+from listmarks.errors import BadText
 
 MOST_NUMBER = 3099
 FIGURES = "0123456789"
@@ -16,8 +16,7 @@ MOST_SIGNS = 14
 
 def numeral(number, kind):
     """Tell the text that writes the number by the kind."""
-    if not is_number(number, 1, MOST_NUMBER):
-        raise BadNumber("no number from 1 to 3099")
+    check_number(number, 1, MOST_NUMBER)
     check_kind(kind)
     if kind == "figures":
         return str(number)

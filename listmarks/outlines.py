@@ -1,4 +1,4 @@
-"""Outlines: the parent and the own number of each item."""
+"""Outlines: the parent and the own number of each item, and copies of them."""
 
 from listmarks.checks import BEGIN, COUNTS_ON, DEPTH, LEFT_OUT, check_outline
 
@@ -38,3 +38,12 @@ def own_number(begin, last):
     if begin == COUNTS_ON:
         return last + 1
     return begin
+
+
+def copied(value):
+    """Tell the same outline, item or part of one, made anew with all lists in it."""
+    if isinstance(value, list):
+        return [copied(part) for part in value]
+    if isinstance(value, tuple):
+        return tuple([copied(part) for part in value])
+    return value

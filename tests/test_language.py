@@ -59,6 +59,20 @@ def defined_names(tree):
             yield node.targets[0].id
 
 
+def methods(tree):
+    """All methods of a file, with their classes."""
+    for node in tree.body:
+        if isinstance(node, ast.ClassDef):
+            for part in node.body:
+                if isinstance(part, ast.FunctionDef):
+                    yield node, part
+
+
+def trees():
+    """The trees of all files, by their names."""
+    return {path.stem: ast.parse(path.read_text(encoding="utf-8")) for path in FILES}
+
+
 class Language(unittest.TestCase):
     def over_files(self, check):
         """Check each file, by its text and its tree."""
@@ -158,14 +172,66 @@ class Language(unittest.TestCase):
     def test_only_allowed_builtins_and_methods(self):
         def check(text, tree):
             known = BUILTINS | {name for name, _ in bound_names(tree)}
+            own = {method.name for _, method in methods(tree)}
             for node in ast.walk(tree):
                 self.assertNotIsInstance(node, BARRED_NODES)
                 if isinstance(node, ast.Name) and isinstance(node.ctx, ast.Load):
                     self.assertIn(node.id, known)
                 if isinstance(node, ast.Call) and isinstance(node.func, ast.Attribute):
-                    self.assertIn(node.func.attr, METHODS)
+                    self.assertIn(node.func.attr, METHODS | own)
                 if isinstance(node, ast.Constant):
                     self.assertNotIsInstance(node.value, (float, complex))
+
+        self.over_files(check)
+
+    def test_methods_of_the_interface_stand_in_their_classes(self):
+        found = {}
+        for tree in trees().values():
+            for made, method in methods(tree):
+                found.setdefault(made.name, []).append(method.name)
+        for name in ("Found", "Twice", "Nobody", "Read", "Broken"):
+            self.assertEqual(found[name], ["__init__", "shows"])
+        listed = {"__init__", "listed", "marks", "put", "take", "move", "shift", "begin", "point"}
+        self.assertLessEqual(listed, set(found["Desk"]))
+
+    def test_no_method_is_called_like_an_attribute(self):
+        names = set()
+        stored = set()
+        read = set()
+        for tree in trees().values():
+            names |= {method.name for _, method in methods(tree)}
+            called = [node.func for node in ast.walk(tree) if isinstance(node, ast.Call)]
+            for node in ast.walk(tree):
+                if isinstance(node, ast.Attribute) and node not in called:
+                    (stored if isinstance(node.ctx, ast.Store) else read).add(node.attr)
+        self.assertFalse(names & stored)
+        self.assertLessEqual(read, stored)
+        for name in (names | stored) - DOUBLE:
+            for value in ("", 0, [], {}, set(), b"", ()):
+                self.assertFalse(hasattr(value, name), name)
+
+    def test_no_two_files_import_from_each_other(self):
+        needed = {
+            name: {node.module.split(".")[1] for node in tree.body if isinstance(node, ast.ImportFrom)}
+            for name, tree in trees().items()
+        }
+        while needed:
+            free = [name for name in needed if not needed[name] & set(needed)]
+            self.assertTrue(free, sorted(needed))
+            for name in free:
+                del needed[name]
+
+    def test_what_is_bound_to_many_conditions_is_not_used(self):
+        unused = (ast.Yield, ast.YieldFrom, ast.GeneratorExp, ast.Lambda, ast.Try, ast.With, ast.NamedExpr, ast.Match)
+
+        def check(text, tree):
+            for node in ast.walk(tree):
+                self.assertNotIsInstance(node, unused)
+                if isinstance(node, ast.FunctionDef):
+                    self.assertEqual(node.decorator_list, [])
+                if isinstance(node, ast.Call):
+                    for keyword in node.keywords:
+                        self.assertEqual((node.func.id, keyword.arg), ("max", "default"))
 
         self.over_files(check)
 

@@ -5,26 +5,14 @@ import unittest
 from listmarks.errors import BadManner, BadOutline
 from listmarks.marks import marks, pointed, stale
 from tests.helpers import (
-    FIGURES, MANNERS, Hostile, LikeAll, mixed_outlines, outlines_of, said_mark, told_class, wrong_kinds,
+    BAD_MANNERS, BAD_OUTLINES, FIGURES, MANNERS, Hostile, mixed_outlines, outlines_of, said_mark, told_class,
+    wrong_kinds,
 )
 
 FLR = ["figures", "letters", "roman", "figures"]
 NESTED = [
     ("a", 0, 0, ["d"]), ("b", 1, 0, ["a", "no"]), ("c", 2, 4, []), ("d", 3, 0, ["e", "e"]), ("e", 1, -1, ["e"]),
     ("f", 2, 0, ["q", "q"]), ("g", 1, 27, ["h", "b"]), ("h", 0, -1, []), ("i", 1, 0, ["x", "i"]),
-]
-BAD_OUTLINES = [
-    None, True, 1, "", "a", b"a", (), {}, object(), Hostile(), LikeAll(), [1], [None], [()], [("a", 0, 0)],
-    [("a", 0, 0, [], [])], [["a", 0, 0, []]], [("a", 1, 0, [])], [("A", 0, 0, [])], [("a", 0, -2, [])],
-    [("a", 0, 3001, [])], [("a", 0, 0, ())], [("a", 0, 0, ["a", "a", "a"])], [("a", 0, 0, [])] * 2,
-    [("a", 0, True, [])], [("a", False, 0, [])], [("abcdefghij"[at], 0, 0, []) for at in range(10)], [Hostile()],
-]
-BAD_MANNERS = [
-    [], ["figures"], ["figures"] * 3, ["figures"] * 5, ("figures",) * 4, "figures", ["figures"] * 3 + ["Roman"],
-    ["figures", "letters", "roman", ""], ["figures", "letters", "roman", None], [None] * 4, [1] * 4, [True] * 4,
-    [b"figures"] * 4, [["figures"]] * 4, [("figures",)] * 4, [Hostile()] * 4, [LikeAll()] * 4, [["figures"] * 4],
-    {0: "figures", 1: "figures", 2: "figures", 3: "figures"}, ["figures", "figures", "figures", "figures "],
-    ["a"] * 4, ["", "", "", ""],
 ]
 
 
